@@ -6,9 +6,11 @@ import (
 	"fairlead/bits"
 	"fairlead/header"
 	"fairlead/net"
+	"fairlead/nfa"
 	"fairlead/ops"
 	"fairlead/table"
 	"fairlead/topo"
+	"fairlead/trace"
 )
 
 // Network: the one of a text.
@@ -86,14 +88,56 @@ func (p Pick) row(in, top int, out []int) table.Row {
 	return r
 }
 
-// chain: any that can be done to some header of a top.
+// chain: any that can be done to some header of a top; most are short.
 func (p Pick) chain(top int) []ops.Op {
 	var chain []ops.Op
-	for range p(4) {
+	tries := p(4)
+	if p(6) == 0 {
+		tries += 30
+	}
+	for range tries {
 		more := append(chain, ops.Op{Kind: ops.Pop + p(3), Label: p(len(Kinds()))})
 		if ops.Check(Kinds(), top, more) == nil {
 			chain = more
 		}
 	}
 	return chain
+}
+
+// Trace: any that a network does under failed links, of at most so many links: it
+// begins with one that didn't fail, if there is one.
+func (p Pick) Trace(n net.Net, failed bits.Set, most int) trace.Trace {
+	var t trace.Trace
+	left := bits.Upto(len(n.Topo.Links)).Less(failed).List()
+	if len(left) == 0 {
+		return t
+	}
+	now := net.Move{Link: left[p(len(left))], Header: p.Header()}
+	for range most {
+		t.Links, t.Headers = append(t.Links, now.Link), append(t.Headers, now.Header)
+		moves := n.Moves(now.Link, now.Header, failed)
+		if len(moves) == 0 {
+			break
+		}
+		now = moves[p(len(moves))]
+	}
+	return t
+}
+
+// NFA: any that may be, of at most so many states, over numbers below one.
+func (p Pick) NFA(states, below int) nfa.NFA {
+	var a nfa.NFA
+	count := 1 + p(states)
+	for range count {
+		var next []int
+		for s := 1; s < count; s++ {
+			if p(2) == 0 {
+				next = append(next, s)
+			}
+		}
+		a.On = append(a.On, p.Set(below).With(p(below)))
+		a.Next = append(a.Next, next)
+		a.Final = append(a.Final, p(2) == 0)
+	}
+	return a
 }
