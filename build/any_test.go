@@ -368,13 +368,13 @@ func TestFixedOver(t *testing.T) {
 
 // P28.1: a system that may be, of a great network: of as many links, labels and rows
 // as there may be, and of long chains, unlike all others, where links failed up to
-// 64 times.
+// 48 times.
 func TestGreat(t *testing.T) {
 	n := net.Net{}
 	n.Topo.Routers = []string{"r"}
 	n = great(n)
 	checkNil(t, "the network may be", n.Check())
-	m := build.Of(n, paths(t, n, ".+"), all(), build.Mode{Kind: build.Under, Fails: 64})
+	m := build.Of(n, paths(t, n, ".+"), all(), build.Mode{Kind: build.Under, Fails: 48})
 	f := findIn(t, n, m)
 	places := 0
 	for state := range f.s.States {
@@ -382,7 +382,7 @@ func TestGreat(t *testing.T) {
 			places++
 		}
 	}
-	check(t, "as many places as there may be", places > 64*50, true)
+	check(t, "as many places as there may be", places > 64*40, true)
 }
 
 // great: a network of one router, 64 links, and 64 labels.
@@ -498,4 +498,12 @@ func TestUnpromised(t *testing.T) {
 	check(t, "its traces", traceText(m.Trace(pds.Config{}, []int{0})), "none")
 	x := nfa.NFA{On: make([]bits.Set, 1), Next: make([][]int, 1), Final: []bool{true}}
 	check(t, "its start", sample.AutoText(m.Start(x)), sample.AutoText(m.End(x)))
+	n := ring()
+	build.Of(n, nfa.NFA{}, all(), build.Mode{})
+	build.Of(n, nfa.NFA{On: make([]bits.Set, 1), Next: [][]int{{-1, 5}}, Final: []bool{true}}, all(), build.Mode{})
+	build.Of(n, x, weigh.Weight{Hops: math.MaxUint64, Dist: math.MaxUint64, Pushes: math.MaxUint64}, build.Mode{})
+	n.Rows[0].Groups[0][0].Out = 99
+	build.Of(n, paths(t, ring(), rounds), all(), build.Mode{})
+	n.Rows[1].Top = -1
+	build.Of(n, paths(t, ring(), rounds), all(), build.Mode{})
 }

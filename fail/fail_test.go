@@ -381,3 +381,14 @@ func TestSame(t *testing.T) {
 	checkNil(t, "Print", err)
 	check(t, "the network", after, before)
 }
+
+// Of what isn't promised: all ends without a panic.
+func TestUnpromised(t *testing.T) {
+	n := ring()
+	x := path(n, "ab i, bd m s i")
+	n.Rows[0].Groups[0][0].Out = 999
+	n.Rows[0].Groups[1][0].Out = -1
+	check(t, "Relevant", fail.Relevant(n), set(n, "ab bc"))
+	fail.Needed(n, set(n, "bc"), x)
+	fail.Needed(net.Net{}, bits.Set{}, x)
+}
