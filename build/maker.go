@@ -3,33 +3,38 @@ package build
 import (
 	"slices"
 
-	"fairlead/bits"
 	"fairlead/nfa"
 	"fairlead/pds"
 )
 
-// maker makes a model.
+// maker makes a model of a plan: of a place a state, and of a node, for each list
+// of states of the paths that may come behind it, and each count of failed links,
+// a state, or less than one.
 type maker struct {
+	plan  *plan
 	paths nfa.NFA
 	mode  Mode
-	kinds []int
-	ways  [][]way // of each link
-	left  map[rest]seat
-	free  seat // the next one from which a word may be laid on
+	aims  *aims
+	seats map[left]seat
+	free  seat // the next one at which one may lay
+	todo  []visit
 	model Model
 }
 
-// rest is what is left to be done on the way to a place: labels to be taken away,
-// and to be laid on, as in a way.
-type rest struct {
-	to         int
-	deep, word string
-}
+// left is what is left on the way to a place, and whereto it leads.
+type left struct{ node, aim, fails int }
 
-// seat is where something is left to be done: a state, and, where there are only
-// labels to be laid on, a label on top. That one tells what is left, as the state
-// does, so that few states are enough for all that may be left.
+// seat is where something is left: a state, and, where one only lays, a label on
+// top. That one tells what is left, as the state does, so that few states are
+// enough for all that may be left.
 type seat struct{ state, top int }
+
+// visit is a seat from which rules are to be made.
+type visit struct {
+	at          seat
+	node, fails int
+	aims        []int
+}
 
 // begin: the places by a link that are starts.
 func (m *maker) begin(link int, cost uint64) {
@@ -44,37 +49,69 @@ func (m *maker) begin(link int, cost uint64) {
 	}
 }
 
-// goOn: the rules by which one comes on from a state, if it is a place.
-func (m *maker) goOn(state int) {
-	from, ok := m.model.Place(state)
-	if !ok {
-		return
-	}
-	for _, w := range m.ways[from.Link] {
-		fails, ok := m.mode.lets(from, w)
+// goOn: the rules of a seat.
+func (m *maker) goOn(v visit) {
+	for _, move := range m.plan.nodes[v.node].moves {
+		fails, ok := m.mode.counts(v.fails, move.told.needs)
 		if !ok {
 			continue
 		}
-		for _, at := range m.paths.Next[from.At] {
-			if m.paths.On[at].Has(w.out) {
-				m.do(state, w, m.place(Place{Link: w.out, At: at, Fails: fails}))
+		for _, aim := range v.aims {
+			if move.to == none {
+				m.arrive(v.at, move, aim, fails)
+			} else {
+				m.pass(v.at, move, aim, fails)
 			}
 		}
 	}
 }
 
-// lets: may a way be gone by, and how many links are counted as failed behind it?
-func (m Mode) lets(from Place, w way) (int, bool) {
-	counted, fails := 0, w.needs.Len()
-	switch m.Kind {
-	case Under:
-		fails += from.Fails
-		counted = fails
-		fallthrough
-	case Over:
-		return counted, fails <= m.Fails && !w.needs.Has(from.Link) && !w.needs.Has(w.out)
+// arrive: the rules of a move to places.
+func (m *maker) arrive(from seat, move move, aim, fails int) {
+	for _, at := range m.aims.lists[aim] {
+		if m.paths.On[at].Has(move.told.out) {
+			m.rules(from, move, m.place(Place{Link: move.told.out, At: at, Fails: fails}), none)
+		}
 	}
-	return 0, w.active && !m.Failed.Has(w.out)
+}
+
+// pass: the rules of a move to a node.
+func (m *maker) pass(from seat, move move, aim, fails int) {
+	n := m.plan.nodes[move.to]
+	aim = m.aims.toward(move.to, n, aim)
+	leads := func(w way) bool {
+		_, ok := m.mode.counts(fails, w.needs)
+		return ok && m.aims.links[aim].Has(w.out)
+	}
+	if slices.ContainsFunc(n.ways, leads) {
+		to := m.seat(left{move.to, aim, fails}, n.lays())
+		m.rules(from, move, to.state, to.top)
+	}
+}
+
+// rules: one of each label that a move may take away, to a state, with a label on
+// top, if it's none.
+func (m *maker) rules(from seat, move move, to, top int) {
+	tops := move.tops
+	if tops == nil {
+		tops = []int{from.top}
+	}
+	for _, label := range tops {
+		var push []int
+		if top != none {
+			push = append(push, top)
+		}
+		for i := len(move.push) - 1; i >= 0; i-- {
+			x := int(move.push[i])
+			if x == same {
+				x = label
+			}
+			push = append(push, x)
+		}
+		rule := pds.Rule{From: from.state, Top: label, To: to, Push: push, Cost: move.told.cost}
+		m.model.system.Rules = append(m.model.system.Rules, rule)
+		m.model.needs = append(m.model.needs, move.told.needs)
+	}
 }
 
 // place: its state.
@@ -87,72 +124,33 @@ func (m *maker) place(p Place) int {
 	if m.paths.Final[p.At] {
 		m.model.ends = append(m.model.ends, s)
 	}
+	m.todo = append(m.todo, visit{seat{s, none}, p.Link, p.Fails, m.aims.of[p.At]})
 	return s
+}
+
+// seat: of what is left.
+func (m *maker) seat(l left, lays bool) seat {
+	if at, ok := m.seats[l]; ok {
+		return at
+	}
+	var at seat
+	switch {
+	case !lays:
+		at = seat{m.state(Place{}), none}
+	case m.free.top == len(m.plan.kinds):
+		m.free = seat{state: m.state(Place{})}
+		fallthrough
+	default:
+		at = m.free
+		m.free.top++
+	}
+	m.seats[l] = at
+	m.todo = append(m.todo, visit{at, l.node, l.fails, []int{l.aim}})
+	return at
 }
 
 // state: a new one, of a place, or, of the zero one, of none.
 func (m *maker) state(p Place) int {
 	m.model.places = append(m.model.places, p)
 	return len(m.model.places) - 1
-}
-
-// do: the rules that go by a way, from a state to a place's.
-func (m *maker) do(from int, w way, to int) {
-	rule := pds.Rule{From: from, Top: w.top, To: to, Cost: w.cost}
-	switch {
-	case w.deep != "":
-		rule.To = m.dig(rest{to: to, deep: w.deep, word: w.word})
-	case len(w.word) > 2:
-		at := m.lay(rest{to: to, word: w.word[1:]})
-		rule.To, rule.Push = at.state, []int{at.top, int(w.word[0])}
-	default:
-		for _, label := range slices.Backward([]byte(w.word)) {
-			rule.Push = append(rule.Push, int(label))
-		}
-	}
-	m.model.system.Rules = append(m.model.system.Rules, rule)
-	m.model.needs = append(m.model.needs, w.needs)
-}
-
-// dig: the state from which labels are taken away.
-func (m *maker) dig(r rest) int {
-	if at, ok := m.left[r]; ok {
-		return at.state
-	}
-	s := m.state(Place{})
-	m.left[r] = seat{state: s}
-	kinds := bits.Set{uint64(r.deep[0])}
-	for label, kind := range m.kinds {
-		if kinds.Has(kind) {
-			w := way{top: label, deep: r.deep[1:], word: r.word}
-			if w.deep == "" {
-				w.word = known(w.word, label)
-			}
-			m.do(s, w, r.to)
-		}
-	}
-	return s
-}
-
-// known: a word, with the label that was taken away last.
-func known(word string, last int) string {
-	if word != "" && word[0] == same {
-		return string([]byte{byte(last)}) + word[1:]
-	}
-	return word
-}
-
-// lay: the seat from which a word is laid on.
-func (m *maker) lay(r rest) seat {
-	if at, ok := m.left[r]; ok {
-		return at
-	}
-	if m.free.top == len(m.kinds) {
-		m.free = seat{state: m.state(Place{})}
-	}
-	at := m.free
-	m.free.top++
-	m.left[r] = at
-	m.do(at.state, way{top: at.top, word: r.word}, r.to)
-	return at
 }

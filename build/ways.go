@@ -16,36 +16,73 @@ import (
 // it is laid on again. No label is so great.
 const same = 0xff
 
-// way is an entry of a row. What its chain does is to take away the row's top, then
-// a label of each of deep, from the top on, and to lay on word, from its front on.
+// rest is what is left to be done of an entry: to take a label away for each of
+// deep, from the top on, to lay word on, from its front on, and to go out.
 // So chains that do the same are the same, and few rules do what each does.
-type way struct {
-	top, out int
-	needs    bits.Set // the links of the groups ahead
-	active   bool     // whether its group is, under the failed links
-	cost     uint64
-	deep     string // of each label its kinds: the bit i tells whether i is one of them
-	word     string
+type rest struct {
+	deep, word string // of each label of deep its kinds: the bit i tells whether i is one of them
+	out        int
 }
 
-// ways: of each link all entries of its rows.
-func ways(n net.Net, w weigh.Weight, failed bits.Set) [][]way {
-	l := make([][]way, len(n.Topo.Links))
+// way is the rest of an entry, and what no rule told of it yet.
+type way struct {
+	rest
+	needs bits.Set // the links of the groups ahead
+	cost  uint64
+}
+
+// row has all entries of a row that may be gone by, once its top was taken away.
+type row struct {
+	top  int
+	ways []way
+}
+
+// rows: of each link.
+func rows(n net.Net, w weigh.Weight, mode Mode) [][]row {
+	l := make([][]row, len(n.Topo.Links))
 	kinds := n.Kinds()
-	for _, row := range n.Rows {
-		if !stands(kinds, row.Top) {
+	for _, r := range n.Rows {
+		if !stands(kinds, r.Top) {
 			continue
 		}
-		for g, group := range row.Groups {
+		x := row{top: r.Top}
+		for g, group := range r.Groups {
 			for _, e := range group {
-				x := wayOf(kinds, row.Top, e)
-				x.needs, x.active = row.Need(g), row.Active(failed) == g
-				x.cost = amount.Add(w.Link(n.Topo.Links[e.Out].Dist), w.Cost(0, 0, uint64(ops.Pushes(e.Ops))))
-				l[row.In] = append(l[row.In], x)
+				if !mode.open(r, g, e) {
+					continue
+				}
+				cost := amount.Add(w.Link(n.Topo.Links[e.Out].Dist), w.Cost(0, 0, uint64(ops.Pushes(e.Ops))))
+				x.ways = append(x.ways, way{restOf(kinds, r.Top, e), r.Need(g), cost})
 			}
 		}
+		l[r.In] = append(l[r.In], x)
 	}
 	return l
+}
+
+// open: may an entry be gone by, where nothing is counted as failed yet?
+func (m Mode) open(r table.Row, g int, e table.Entry) bool {
+	if m.Kind == Fixed {
+		return r.Active(m.Failed) == g && !m.Failed.Has(e.Out)
+	}
+	needs := r.Need(g)
+	_, ok := m.counts(0, needs)
+	return ok && !needs.Has(r.In) && !needs.Has(e.Out)
+}
+
+// counts: how many links are counted as failed, once some more must have, and may
+// as many be?
+func (m Mode) counts(fails int, needs bits.Set) (int, bool) {
+	counted, all := 0, needs.Len()
+	switch m.Kind {
+	case Under:
+		all += fails
+		counted = all
+		fallthrough
+	case Over:
+		return counted, all <= m.Fails
+	}
+	return 0, true
 }
 
 // stands: is there a header with such a top? An mpls stands above an smpls, be it
@@ -54,8 +91,8 @@ func stands(kinds []int, top int) bool {
 	return bits.Upto(kinds[top]).Without(0).Under(bits.Of(kinds...))
 }
 
-// wayOf: what an entry of a row of a top does.
-func wayOf(kinds []int, top int, e table.Entry) way {
+// restOf: what an entry of a row of a top does, once the top was taken away.
+func restOf(kinds []int, top int, e table.Entry) rest {
 	c := chain{kinds: kinds, may: bits.Of(kinds[top])}
 	for _, op := range e.Ops {
 		c.do(op)
@@ -65,7 +102,7 @@ func wayOf(kinds []int, top int, e table.Entry) way {
 	} else if c.asked {
 		c.again(same)
 	}
-	return way{top: top, out: e.Out, deep: string(c.deep[1:]), word: string(c.word)}
+	return rest{deep: string(c.deep[1:]), word: string(c.word), out: e.Out}
 }
 
 // chain follows what ops do to a header of which the top's kind alone is known.
