@@ -89,8 +89,8 @@ func (m *maker) pass(from seat, move move, aim, fails int) {
 	}
 }
 
-// rules: one of each label that a move may take away, to a state, with a label on
-// top, if it's none.
+// rules: one of each label that a move may take away, to a state, with a label of
+// the state's on top, if it has one.
 func (m *maker) rules(from seat, move move, to, top int) {
 	tops := move.tops
 	if tops == nil {
