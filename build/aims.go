@@ -22,31 +22,33 @@ type aims struct {
 // toward is a node, on the way to some of a list.
 type toward struct{ node, aim int }
 
-// aimsOf: of paths. Those lists are kept whole that make it the fewest of all.
+// aimsOf: of paths. There are as few lists as can be, of whole ones and of their parts.
 func aimsOf(p nfa.NFA) *aims {
 	a := &aims{paths: p, known: map[string]int{}, ahead: map[toward]int{}}
 	var whole []int
 	for _, next := range p.Next {
 		whole = append(whole, a.list(next))
 	}
-	apart := cover.Split(a.lists, p.Len())
-	for _, aim := range whole {
-		if apart[aim] {
-			a.of = append(a.of, a.each(aim))
-		} else {
-			a.of = append(a.of, []int{aim})
+	var sets [][]cover.Member
+	for _, list := range a.lists {
+		var set []cover.Member
+		for _, at := range list {
+			set = append(set, cover.Member{ID: at})
 		}
+		sets = append(sets, set)
+	}
+	parts := cover.Parts(sets)
+	for _, aim := range whole {
+		of := []int{aim}
+		if parts[aim] != nil {
+			of = nil
+		}
+		for _, part := range parts[aim] {
+			of = append(of, a.list(part))
+		}
+		a.of = append(a.of, of)
 	}
 	return a
-}
-
-// each: of a list those of one state.
-func (a *aims) each(aim int) []int {
-	var l []int
-	for _, at := range a.lists[aim] {
-		l = append(l, a.list([]int{at}))
-	}
-	return l
 }
 
 // by: the states of a list to which one may come by some links.

@@ -52,7 +52,7 @@ func (m *maker) begin(link int, cost uint64) {
 // goOn: the rules of a seat.
 func (m *maker) goOn(v visit) {
 	for _, move := range m.plan.nodes[v.node].moves {
-		fails, ok := m.mode.counts(v.fails, move.told.needs)
+		fails, ok := m.mode.counts(v.fails, move.needs)
 		if !ok {
 			continue
 		}
@@ -69,8 +69,8 @@ func (m *maker) goOn(v visit) {
 // arrive: the rules of a move to places.
 func (m *maker) arrive(from seat, move move, aim, fails int) {
 	for _, at := range m.aims.lists[aim] {
-		if m.paths.On[at].Has(move.told.out) {
-			m.rules(from, move, m.place(Place{Link: move.told.out, At: at, Fails: fails}), none)
+		if m.paths.On[at].Has(move.out) {
+			m.rules(from, move, m.place(Place{Link: move.out, At: at, Fails: fails}), none)
 		}
 	}
 }
@@ -108,9 +108,9 @@ func (m *maker) rules(from seat, move move, to, top int) {
 			}
 			push = append(push, x)
 		}
-		rule := pds.Rule{From: from.state, Top: label, To: to, Push: push, Cost: move.told.cost}
+		rule := pds.Rule{From: from.state, Top: label, To: to, Push: push, Cost: move.cost}
 		m.model.system.Rules = append(m.model.system.Rules, rule)
-		m.model.needs = append(m.model.needs, move.told.needs)
+		m.model.needs = append(m.model.needs, move.needs)
 	}
 }
 

@@ -72,6 +72,12 @@ func unlike(n, k, labels int) []ops.Op {
 	return chain
 }
 
+// dear: the same chain, with so many labels laid on, and taken away, ahead of it.
+func dear(n int, chain []ops.Op) []ops.Op {
+	ahead := []ops.Op{{Kind: ops.Push, Label: 2}, {Kind: ops.Pop}}
+	return append(slices.Repeat(ahead, n), chain...)
+}
+
 // round: an automaton of paths: 0 goes to each state, each other one to the one
 // behind it, the last one to the first; by any link.
 func round(states int) nfa.NFA {
@@ -171,29 +177,48 @@ func TestManyAlike(t *testing.T) {
 		"2 3 4 5 1 0", "3 4 5 3 2 2 1 0", "5 2 2 1 0", "0")
 }
 
+// someOf: the numbers of those of seven lists that a number tells by its bits, rising.
+func someOf(lists [7][]int, which int) []int {
+	var l []int
+	for bit, list := range lists {
+		if which>>bit&1 == 1 {
+			l = append(l, list...)
+		}
+	}
+	slices.Sort(l)
+	return l
+}
+
 // P28.1: it takes few states, where one comes to the same states of the paths from
-// all of them, and where one comes from each of them to others of a few.
+// all of them, and where one comes from each of them to others of a few, or to
+// others of a few lists.
 func TestManyPaths(t *testing.T) {
 	chain := func(_, k int) []ops.Op { return unlike(2, k, 6) }
 	w := wide{labels: 6, tops: 4, groups: 1, entries: 4, out: perGroup, ops: chain}
 	headers := []string{"2 3 1 0", "3 4 5 1 0", "5 2 2 3 1 0", "4 2 2 1 0", "2 1 0", "0"}
-	for _, few := range []int{199, 7} {
-		p := round(200)
+	var few, lists [7][]int
+	for at := 1; at < 150; at++ {
+		lists[at%7] = append(lists[at%7], at)
+		if at < 8 {
+			few[at-1] = []int{at}
+		}
+	}
+	for _, c := range []struct {
+		next func(at int) []int
+		most int // lists of states of the paths
+	}{
+		{func(at int) []int { return round(150).Next[0] }, 1},
+		{func(at int) []int { return someOf(few, at%128) }, 7},
+		{func(at int) []int { return someOf(lists, at%128) }, 7},
+	} {
+		p := round(150)
 		for at := 1; at < p.Len(); at++ {
-			p.Next[at] = p.Next[0]
-			if few == 7 {
-				p.Next[at] = nil
-				for bit := range few {
-					if (at+1)>>bit&1 == 1 {
-						p.Next[at] = append(p.Next[at], 1+bit)
-					}
-				}
-			}
+			p.Next[at] = c.next(at)
 		}
 		m := manyOf(t, w, p, build.Over, 0)
 		// two labels of each row are taken away, and some are laid on
-		m.atMost(t, 256*min(few, 200-few)*2+256*7)
-		m.holds(t, []build.Place{{Link: 0, At: 1}, {Link: 63, At: 199}, {Link: 7, At: 5}}, headers...)
+		m.atMost(t, 256*c.most*2+256*7)
+		m.holds(t, []build.Place{{Link: 0, At: 1}, {Link: 63, At: 149}, {Link: 7, At: 5}}, headers...)
 	}
 }
 
@@ -274,6 +299,12 @@ func TestFewStates(t *testing.T) {
 		}
 		return unlike(2, 4*in+k%4, 8)
 	}
+	pool := func(in, _, group, k int) int { return 32 + 16*group + []int{k / 16 % 16, k / 256}[group] }
+	ofPool := func(in, k int) []ops.Op { return dear(k%2, unlike(2, 8*pool(in, 0, k/8%2, k)+k%8, 8)) }
+	orders := func(in, top, group, k int) int { return in + 1 + []int{group, 1 - group, k % 2}[top] }
+	next := func(in, _, _, k int) int { return in + 1 + k%2 }
+	costs := func(in, k int) []ops.Op { return dear([]int{0, 0, 1, 0, 0, 1}[k%6], unlike(2, in, 8)) }
+	twice := func(in, k int) []ops.Op { return dear([]int{0, 1, 0, 2}[k%4], pops(3)) }
 	other := nfa.NFA{On: []bits.Set{{}, bits.Of(0)}, Next: [][]int{{1}, {1}}, Final: []bool{true, true}}
 	for _, c := range []struct {
 		what              string
@@ -287,6 +318,10 @@ func TestFewStates(t *testing.T) {
 				func(in, k int) []ops.Op { return unlike(1, 4*in+(k+k/4)%4, 8) }},
 			round(2), build.Over, 0, 64 + 64*7/8 + 1},
 		{"ways that stand alone, too", wide{8, 3, 2, 1, pairs, perLink}, round(2), build.Over, 1, 64*2*2 + 64*2*2/8 + 1},
+		{"links that fail in another order", wide{8, 3, 2, 2, orders, perLink}, round(2), build.Over, 1, 64*2*2 + 64*2*2/8 + 1},
+		{"chains that cost more", wide{8, 3, 1, 2, next, costs}, round(2), build.Over, 0, 64*2*2 + 64*2*2/8 + 1},
+		{"chains at two costs", wide{8, 2, 1, 2, func(in, _, _, _ int) int { return in }, twice}, round(2), build.Over, 0, 64 * 2},
+		{"groups that many rows have", wide{8, 4, 2, 8, pool, ofPool}, round(2), build.Over, 1, 32*2 + 32*16/8},
 		{"links that the paths don't have", wide{8, 4, 1, 4, perGroup, perLink}, other, build.Over, 0, 0},
 		{"more links failed than may", wide{8, 4, 2, 2, perGroup, late}, round(2), build.Under, 1, 64*2 + 64*3/8 + 1},
 	} {
