@@ -1,6 +1,6 @@
-// Package sample makes systems with a stack, sets of their configurations, and
-// networks, out of short texts, and tells them as texts: for the tests of the layers
-// about them.
+// Package sample makes systems with a stack, sets of their configurations, networks,
+// and questions, out of short texts, and tells them as texts: for the tests of the
+// layers about them.
 package sample
 
 import (
